@@ -1,0 +1,315 @@
+"""What several tests need: odd things, texts of programs, a second way to reckon them, and programs made up."""
+
+import unittest
+from itertools import product
+from random import Random
+
+from gatepapers.errors import GateError
+
+KEPT = ("part end in out wire memory rooms go use number of at not and or xor plus minus same less if join cut").split()
+EXPRESSION_WORDS = KEPT[9:]
+TWO = ("and", "or", "xor", "plus", "minus", "same", "less", "join")
+
+
+def nested(deep, wrap):
+    """A thing nested so deep."""
+    thing = wrap()
+    for k in range(deep - 1):
+        thing = wrap(thing)
+    return thing
+
+
+def list_of(*things):
+    return list(things)
+
+
+def tuple_of(*things):
+    return tuple(things)
+
+
+def dict_of(*things):
+    return {k: thing for k, thing in enumerate(things)}
+
+
+ODD_THINGS = [
+    None, True, False, [], [0], [1, 2], (), (0,), (1, 2), {}, {0: 1}, {"part": 1}, b"", b"0", b"part",
+    1.0, 0.0, -1.5, set(), {0}, frozenset(), object(), int, len,
+    nested(100, list_of), nested(100, tuple_of), nested(100, dict_of),
+]
+
+
+def lists_of_bits(many):
+    """Each list of so many bits."""
+    return [list(bits) for bits in product((0, 1), repeat=many)]
+
+
+class Checks(unittest.TestCase):
+    """A test that can ask for one refusal and for no other."""
+
+    def refused(self, error, deed, *things):
+        try:
+            answer = deed(*things)
+        except GateError as caught:
+            self.assertIs(type(caught), error, (str(caught), things))
+        else:
+            self.fail(f"not refused with {error.__name__}, but told {answer!r}: {things!r}")
+
+    def whole(self, thing):
+        self.assertIs(type(thing), int)
+
+
+# Texts of programs.
+
+def text_of(program):
+    """The text of a program."""
+    return " ".join([f"part {name} {' '.join([row_text(row) for row in rows])} end" for name, rows in program])
+
+
+def row_text(row):
+    words = [row[0]]
+    for thing in row[1:]:
+        if row[0] == "rooms" and isinstance(thing, tuple):
+            words.extend(thing)
+        elif row[0] == "use" and isinstance(thing, tuple):
+            words.extend([expression_text(one) for one in thing])
+        else:
+            words.append(expression_text(thing) if isinstance(thing, tuple) else str(thing))
+    return " ".join(words)
+
+
+def expression_text(expression):
+    if expression[0] == "name":
+        return expression[1]
+    things = [expression_text(one) if isinstance(one, tuple) else str(one) for one in expression[1:]]
+    return f"({' '.join([expression[0]] + things)})"
+
+
+def all_expressions(thing):
+    """The expressions anywhere in a program, its parts, rows or expressions."""
+    found = []
+    if isinstance(thing, tuple) and thing and thing[0] in ["name"] + EXPRESSION_WORDS:
+        found.append(thing)
+    if isinstance(thing, (list, tuple)):
+        for inner in thing:
+            found.extend(all_expressions(inner))
+    return found
+
+
+# A second way to reckon: by lists of bits, each name looked up as it is asked for.
+
+def to_bits(number, width):
+    return [int(figure) for figure in reversed(format(number, f"0{width}b"))]
+
+
+def to_number(bits):
+    return int("".join([str(bit) for bit in reversed(bits)]), 2)
+
+
+class Model:
+    """One turn of a part, reckoned bit by bit."""
+
+    def __init__(self, program, name, state, ins):
+        self.program = program
+        self.rows = [rows for other, rows in program if other == name][0]
+        keepers = [row for row in self.rows if row[0] in ("memory", "rooms", "use")]
+        self.state = {row[1]: thing for row, thing in zip(keepers, state)}
+        self.ins = {row[1]: value for row, value in zip([row for row in self.rows if row[0] == "in"], ins)}
+        self.used = {}
+        self.keepers = keepers
+
+    def outs(self):
+        return {row[1]: self.bits(row[2]) for row in self.rows if row[0] == "out"}
+
+    def after(self):
+        return [self.later(row) for row in self.keepers]
+
+    def later(self, row):
+        if row[0] == "memory":
+            return to_number(self.bits(row[4]))
+        if row[0] == "use":
+            return self.use(row[1]).after()
+        here = self.state[row[1]]
+        ways = [going[3] for going in self.rows
+                if going[0] == "go" and going[1] == row[1] and going[2] == row[2][here] and self.bits(going[4]) == [1]]
+        return row[2].index(ways[0]) if ways else here
+
+    def use(self, name):
+        if name not in self.used:
+            row = [row for row in self.rows if row[0] == "use" and row[1] == name][0]
+            handed = [to_number(self.bits(one)) for one in row[3]]
+            self.used[name] = Model(self.program, row[2], self.state[name], handed)
+        return self.used[name]
+
+    def name(self, name):
+        for row in self.rows:
+            if row[:2] == ("in", name):
+                return to_bits(self.ins[name], row[2])
+            if row[:2] == ("memory", name):
+                return to_bits(self.state[name], row[2])
+            if row[:2] == ("wire", name):
+                return self.bits(row[2])
+        raise KeyError(name)
+
+    def bits(self, expression):
+        word = expression[0]
+        if word == "name":
+            return self.name(expression[1])
+        if word == "number":
+            return to_bits(expression[2], expression[1])
+        if word == "of":
+            return self.use(expression[1]).outs()[expression[2]]
+        if word == "at":
+            names = [row[2] for row in self.rows if row[:2] == ("rooms", expression[1])][0]
+            return [int(names[self.state[expression[1]]] == expression[2])]
+        if word == "cut":
+            return self.bits(expression[1])[expression[2]:expression[2] + expression[3]]
+        return over_bits(word, [self.bits(one) for one in expression[1:]])
+
+
+def over_bits(word, lists):
+    """What an expression tells of the bits of those within it."""
+    if word == "not":
+        return [1 - bit for bit in lists[0]]
+    if word == "if":
+        return lists[1] if lists[0] == [1] else lists[2]
+    one, other = lists
+    if word == "join":
+        return one + other
+    if word == "same":
+        return [int(one == other)]
+    if word == "less":
+        return [int(one[::-1] < other[::-1])]
+    if word == "and":
+        return [a * b for a, b in zip(one, other)]
+    if word == "or":
+        return [max(a, b) for a, b in zip(one, other)]
+    if word == "xor":
+        return [int(a != b) for a, b in zip(one, other)]
+    carry = int(word == "minus")
+    found = []
+    for a, b in zip(one, [1 - b for b in other] if word == "minus" else other):
+        found.append((a + b + carry) % 2)
+        carry = (a + b + carry) // 2
+    return found
+
+
+# Programs made up, the same for the same number.
+
+class Maker:
+    """Makes up programs that are refused by nothing but, perhaps, their weight."""
+
+    def __init__(self, seed):
+        self.chance = Random(seed)
+        self.shapes = {}
+
+    def program(self):
+        return [(name, self.part(name)) for name in ["pa", "pb", "pc", "pd"][:self.chance.randint(1, 4)]]
+
+    def part(self, name):
+        chance = self.chance
+        self.names, self.outs, self.rooms = {}, {}, {}
+        begun = [("in", f"i{'abc'[k]}", chance.randint(1, 4)) for k in range(chance.randint(0, 3))]
+        ins = [(row[1], row[2]) for row in begun]
+        memories = [(f"m{'abc'[k]}", chance.randint(1, 4)) for k in range(chance.randint(0, 2))]
+        for k in range(chance.randint(0, 2)):
+            rooms = ("ra", "rb", "rc", "rd")[:chance.randint(1, 4)]
+            begun.append(("rooms", f"q{'ab'[k]}", rooms))
+            self.rooms[f"q{'ab'[k]}"] = rooms
+        self.names = dict(ins + memories)
+        led = [self.led(k) for k in range(chance.randint(0, 4))]
+        behind = [("memory", one, width, chance.randrange(1 << width), self.expression(width, 2))
+                  for one, width in memories]
+        behind += [("go", q, chance.choice(rooms), chance.choice(rooms), self.expression(1, 2))
+                   for q, rooms in self.rooms.items() for k in range(chance.randint(0, 4))]
+        outs = [(f"o{'abc'[k]}", chance.randint(1, 4)) for k in range(chance.randint(0 if behind else 1, 3))]
+        behind += [("out", one, width, self.expression(width, 3)) for one, width in outs]
+        behind = [row if row[0] != "out" else (row[0], row[1], row[3]) for row in behind]
+        self.shapes[name] = (ins, outs)
+        return self.mixed(begun + behind, led, ins, outs)
+
+    def led(self, k):
+        """A wire or a use, which serves from now on."""
+        name = "wabcd"[k] + "w"
+        if self.shapes and self.chance.random() < 0.5:
+            used = self.chance.choice(sorted(self.shapes))
+            row = ("use", name, used, tuple([self.expression(width, 1) for one, width in self.shapes[used][0]]))
+            self.outs.update({(name, out): width for out, width in self.shapes[used][1]})
+            return row
+        width = self.chance.randint(1, 4)
+        row = ("wire", name, self.expression(width, 2))
+        self.names[name] = width
+        return row
+
+    def mixed(self, free, led, ins, outs):
+        """The rows in any order in which those that must stand ahead do, and ins and outs are in theirs."""
+        order = [("free", row) for row in free] + [("led", None)] * len(led)
+        self.chance.shuffle(order)
+        led, ins, outs = list(led), [("in", *one) for one in ins], [row for row in free if row[0] == "out"]
+        rows = []
+        for kind, row in order:
+            source = led if kind == "led" else {"in": ins, "out": outs}.get(row[0])
+            rows.append(source.pop(0) if source is not None else row)
+        return rows
+
+    def expression(self, width, deep):
+        words = ["name", "of", "at"] + (["number"] if self.chance.random() < 0.2 else [])
+        if deep:
+            words += ["not", "and", "or", "xor", "plus", "minus", "if", "same", "less", "join", "cut"]
+        self.chance.shuffle(words)
+        words.append("number")
+        for word in words:
+            made = self.made(word, width, deep - 1)
+            if made is not None:
+                return made
+        return None
+
+    def made(self, word, width, deep):
+        """An expression of a word and a width, or None where there is none."""
+        chance = self.chance
+        if word in ("name", "of", "at"):
+            return self.leaf(word, width)
+        if word == "number":
+            return ("number", width, chance.randrange(1 << width))
+        if word == "join":
+            low = chance.randint(1, width - 1) if width > 1 else 0
+            return ("join", self.expression(low, deep), self.expression(width - low, deep)) if low else None
+        if word == "cut":
+            wide = chance.randint(width, 6)
+            return ("cut", self.expression(wide, deep), chance.randint(0, wide - width), width)
+        if word in ("same", "less") and width == 1:
+            wide = chance.randint(1, 4)
+            return (word, self.expression(wide, deep), self.expression(wide, deep))
+        if word == "if":
+            return ("if", self.expression(1, deep), self.expression(width, deep), self.expression(width, deep))
+        if word in ("same", "less"):
+            return None
+        return (word,) + tuple([self.expression(width, deep) for k in range(1 if word == "not" else 2)])
+
+    def leaf(self, word, width):
+        if word == "name":
+            fit = [("name", name) for name, wide in self.names.items() if wide == width]
+        elif word == "of":
+            fit = [("of",) + pair for pair, wide in self.outs.items() if wide == width]
+        else:
+            fit = [("at", q, room) for q, rooms in self.rooms.items() for room in rows_if(rooms, width)]
+        return self.chance.choice(fit) if fit else None
+
+    def ins(self, program, name):
+        """Numbers for the ins of a part."""
+        return [self.chance.randrange(1 << width) for one, width in self.shapes[name][0]]
+
+    def state(self, program, name):
+        """A state of a part, come to or not."""
+        found = []
+        for row in dict(program)[name]:
+            if row[0] == "memory":
+                found.append(self.chance.randrange(1 << row[2]))
+            elif row[0] == "rooms":
+                found.append(self.chance.randrange(len(row[2])))
+            elif row[0] == "use":
+                found.append(self.state(program, row[2]))
+        return found
+
+
+def rows_if(rooms, width):
+    return rooms if width == 1 else ()
