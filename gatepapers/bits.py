@@ -6,6 +6,11 @@ def is_whole(thing):
     return isinstance(thing, int) and not isinstance(thing, bool)
 
 
+def is_below(thing, bound):
+    """Whether a thing is a whole number from 0 to below a bound; of anything."""
+    return is_whole(thing) and 0 <= thing < bound
+
+
 def bits_of(number, width):
     """The bits of a number in a width, the lowest first."""
     return [(number >> k) & 1 for k in range(width)]

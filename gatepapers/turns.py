@@ -26,10 +26,10 @@ def run(program, rows):
 
 
 class Scene:
-    """What names, rooms and outs of uses stand for at one turn of a part."""
+    """What names, rooms and outs of uses stand for in one part."""
 
     def __init__(self):
-        # Names, and each use's outs, have tuples (value, width); each rooms row's rooms have the bit that at tells.
+        # At a turn names, and each use's outs, have tuples (value, width); each rooms row's rooms the bit at tells.
         self.names = {}
         self.rooms = {}
         self.outs = {}

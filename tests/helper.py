@@ -1,6 +1,7 @@
-"""What several tests need: odd things, texts of programs, a second way to reckon them, and programs made up."""
+"""What several tests need: odd things, texts of programs, a second way to reckon, programs and circuits made up."""
 
 import unittest
+from copy import deepcopy
 from itertools import product
 from random import Random
 
@@ -39,8 +40,16 @@ ODD_THINGS = [
 
 
 def lists_of_bits(many):
-    """Each list of so many bits."""
+    """Each list of so many bits, rising."""
     return [list(bits) for bits in product((0, 1), repeat=many)]
+
+
+def lists_within(thing):
+    """A thing, if it is a list, and all lists within it."""
+    found = [thing] if isinstance(thing, list) else []
+    for inner in thing if isinstance(thing, (list, tuple)) else ():
+        found.extend(lists_within(inner))
+    return found
 
 
 class Checks(unittest.TestCase):
@@ -56,6 +65,24 @@ class Checks(unittest.TestCase):
 
     def whole(self, thing):
         self.assertIs(type(thing), int)
+
+    def own_lists(self, deed, *things):
+        """That a deed leaves what is handed in, and each time tells the same in lists that are its asker's own."""
+        things = [deepcopy(thing) for thing in things]
+        kept = deepcopy(things)
+        told = [deed(*things) for k in range(3)]
+        self.assertEqual(things, kept)
+        wanted = deepcopy(told[0])
+        lists = lists_within(things) + lists_within(told)
+        self.assertEqual(len({id(one) for one in lists}), len(lists))
+        for one in lists_within(told[0]):
+            one.append("more")
+        self.assertEqual(told[1:], [wanted, wanted])
+        self.assertEqual(things, kept)
+        self.assertEqual(deed(*things), wanted)
+        for one in lists_within(things):
+            one.clear()
+        self.assertEqual(told[1:], [wanted, wanted])
 
 
 # Texts of programs.
@@ -313,3 +340,54 @@ class Maker:
 
 def rows_if(rooms, width):
     return rooms if width == 1 else ()
+
+
+# Circuits: a second way to reckon them, and circuits made up.
+
+def values_by_point(circuit, state, ins):
+    """The value of each place, each asked for by itself and of those below it as they are needed."""
+    many, memories, gates, outs = circuit
+    known = {}
+
+    def value(place):
+        if place < many:
+            return ins[place]
+        if place < many + len(memories):
+            return state[place - many]
+        if place not in known:
+            table, places = gates[place - many - len(memories)]
+            at = sum([value(below) * worth for below, worth in zip(places, (1, 2, 4))])
+            known[place] = int(format(table, "b")[::-1].ljust(8, "0")[at])
+        return known[place]
+
+    return [value(place) for place in range(many + len(memories) + len(gates))]
+
+
+def turn_by_point(circuit, state, ins):
+    """The outs and the next state of one turn."""
+    values = values_by_point(circuit, state, ins)
+    return [values[place] for place in circuit[3]], [values[after] for begin, after in circuit[1]]
+
+
+def run_by_point(circuit, rows):
+    """The outs of each turn, from the first state on."""
+    state = [begin for begin, after in circuit[1]]
+    told = []
+    for ins in rows:
+        outs, state = turn_by_point(circuit, state, ins)
+        told.append(outs)
+    return told
+
+
+def made_up_gate(chance, own):
+    """A gate of any table over places below its own."""
+    many = chance.choice((0, 1, 2, 2, 3, 3)) if own else 0
+    return (chance.randrange(2 ** 2 ** many), tuple([chance.randrange(own) for k in range(many)]))
+
+
+def made_up_circuit(chance, ins, memories, gates, outs):
+    """A circuit with so many of each, or no memories and outs where it has no place for them."""
+    laid = [made_up_gate(chance, ins + memories + k) for k in range(gates)]
+    many = ins + memories + gates
+    kept = [(chance.randrange(2), chance.randrange(many)) for k in range(memories)]
+    return (ins, kept, laid, [chance.randrange(many) for k in range(outs if many else 0)])

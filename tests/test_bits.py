@@ -1,7 +1,22 @@
 """Bits of numbers, and numbers of bits."""
 
-from gatepapers.bits import bits_of, number_of
-from tests.helper import Checks, lists_of_bits
+from gatepapers.bits import bits_of, is_below, is_whole, number_of
+from tests.helper import ODD_THINGS, Checks, lists_of_bits
+
+
+class Whole(Checks):
+    def test_whole_numbers(self):
+        for number in (0, 1, -1, 255, 10 ** 59, -10 ** 59):
+            self.assertIs(is_whole(number), True)
+        for thing in ODD_THINGS + ["", "0"]:
+            self.assertIs(is_whole(thing), False, thing)
+
+    def test_below_a_bound(self):
+        for bound in (0, 1, 2, 8):
+            for number in range(-2, 10):
+                self.assertIs(is_below(number, bound), number in range(bound))
+            for thing in ODD_THINGS + ["", "0", 10 ** 59, -10 ** 59]:
+                self.assertIs(is_below(thing, bound), False, thing)
 
 
 class Bits(Checks):

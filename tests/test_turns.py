@@ -6,7 +6,7 @@ from itertools import product
 from gatepapers.kinds import look_over
 from gatepapers.reading import read
 from gatepapers.turns import first_state, run, turn
-from tests.helper import Checks, Maker, Model, to_number
+from tests.helper import Checks, Maker, Model, lists_within, to_number
 
 
 def main(rows):
@@ -294,12 +294,6 @@ class OwnLists(Checks):
         run(self.PROGRAM, rows)
         self.assertEqual((self.PROGRAM, state, ins, rows), (kept, before, [3], [[1], [2], [3]]))
 
-    def lists_within(self, thing):
-        found = [thing] if isinstance(thing, list) else []
-        for inner in thing if isinstance(thing, (list, tuple)) else ():
-            found.extend(self.lists_within(inner))
-        return found
-
     def test_what_is_told_is_new(self):
         state = first_state(self.PROGRAM, "main")
         rows = [[1], [2]]
@@ -307,13 +301,13 @@ class OwnLists(Checks):
             lambda: first_state(self.PROGRAM, "main"), lambda: turn(self.PROGRAM, "main", state, rows[0]),
             lambda: run(self.PROGRAM, rows),
         ]
-        known = self.lists_within(self.PROGRAM) + self.lists_within(state) + self.lists_within(rows)
+        known = lists_within(self.PROGRAM) + lists_within(state) + lists_within(rows)
         for deed in deeds:
             told = [deed() for k in range(3)]
             wanted = deepcopy(told[0])
-            everything = known + self.lists_within(told)[1:]
+            everything = known + lists_within(told)[1:]
             self.assertEqual(len({id(one) for one in everything}), len(everything))
-            for one in self.lists_within(told[0]):
+            for one in lists_within(told[0]):
                 one.append("more")
             self.assertEqual(told[1:], [wanted, wanted])
             self.assertEqual(deed(), wanted)
@@ -323,7 +317,7 @@ class OwnLists(Checks):
         state = first_state(program, "main")
         told = turn(program, "main", state, [3])
         wanted = deepcopy(told)
-        for one in self.lists_within(program) + self.lists_within(state):
+        for one in lists_within(program) + lists_within(state):
             one.clear()
         self.assertEqual(told, wanted)
 
