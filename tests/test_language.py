@@ -34,6 +34,8 @@ NO_NODES = (
 )
 LAZY_NAMES = ("zip", "enumerate", "reversed", "range")
 LAZY_METHODS = ("items", "keys", "values")
+WALKERS = ("list", "tuple", "dict", "sorted", "sum", "any", "all", "enumerate", "zip", "bytes")
+CHANGES = ("append", "clear", "extend", "insert", "pop", "remove", "reverse", "setdefault", "update", "sort")
 
 
 def trees():
@@ -209,11 +211,27 @@ class Things(unittest.TestCase):
 
     def test_walks_and_sets_on_the_spot(self):
         for where, node in nodes():
-            if isinstance(node, (ast.Assign, ast.Return)):
-                self.assertFalse(lazy(node.value), where)
+            walked = []
+            if isinstance(node, (ast.For, ast.comprehension)):
+                walked.append(node.iter)
+            if isinstance(node, ast.Call) and called(node) in WALKERS:
+                walked.extend(node.args[:1])
+            for inner in ast.iter_child_nodes(node):
+                self.assertTrue(not lazy(inner) or inner in walked, where)
             if isinstance(node, (ast.For, ast.comprehension)):
                 self.assertNotIn(called(node.iter), ("set", "frozenset"), where)
                 self.assertNotIsInstance(node.iter, (ast.Set, ast.SetComp), where)
+
+    def test_what_is_walked_is_not_changed(self):
+        for where, node in nodes():
+            if isinstance(node, ast.For):
+                inner = [node.iter] + (node.iter.args if isinstance(node.iter, ast.Call) else [])
+                names = [one.id for one in inner if isinstance(one, ast.Name)]
+                for one in [one for row in node.body for one in ast.walk(row)]:
+                    if isinstance(one, ast.Attribute) and one.attr in CHANGES and isinstance(one.value, ast.Name):
+                        self.assertNotIn(one.value.id, names, where)
+                    if isinstance(one, ast.Subscript) and isinstance(one.ctx, ast.Store) and isinstance(one.value, ast.Name):
+                        self.assertNotIn(one.value.id, names, where)
 
     def test_errors_are_made_on_the_spot_with_texts(self):
         for where, node in nodes():
