@@ -1,11 +1,13 @@
-"""What several tests need: odd things, texts of programs, a second way to reckon, programs and circuits made up."""
+"""What several tests need: odd things, texts of programs, second ways to reckon, programs and circuits made up."""
 
 import unittest
 from copy import deepcopy
 from itertools import product
 from random import Random
 
+from gatepapers.circuits import is_circuit, run_bits
 from gatepapers.errors import GateError
+from gatepapers.papers import looked
 
 KEPT = ("part end in out wire memory rooms go use number of at not and or xor plus minus same less if join cut").split()
 EXPRESSION_WORDS = KEPT[9:]
@@ -65,6 +67,15 @@ class Checks(unittest.TestCase):
 
     def whole(self, thing):
         self.assertIs(type(thing), int)
+
+    def same_by_paper(self, circuit, other, paper, model=True):
+        """That both are circuits that tell the same, and that the looker takes the paper for them."""
+        self.assertIs(is_circuit(other), True, other)
+        rows = made_up_rows(Random(len(circuit[2])), circuit[0], 24)
+        self.assertEqual(run_bits(circuit, rows), run_bits(other, rows), (circuit, other))
+        self.assertIs(looked(circuit, other, paper), True, (circuit, other, paper))
+        if model:
+            self.assertTrue(PaperModel(circuit, other, paper).taken(), (circuit, other, paper))
 
     def own_lists(self, deed, *things):
         """That a deed leaves what is handed in, and each time tells the same in lists that are its asker's own."""
@@ -385,9 +396,216 @@ def made_up_gate(chance, own):
     return (chance.randrange(2 ** 2 ** many), tuple([chance.randrange(own) for k in range(many)]))
 
 
+def made_up_rows(chance, ins, many):
+    """So many lists of bits for so many ins."""
+    return [[chance.randrange(2) for k in range(ins)] for row in range(many)]
+
+
+def small_circuit(chance, most=(3, 4, 10, 3)):
+    """A circuit with at most so many ins, memories, gates and outs."""
+    return made_up_circuit(chance, *[chance.randint(0, one) for one in most])
+
+
 def made_up_circuit(chance, ins, memories, gates, outs):
     """A circuit with so many of each, or no memories and outs where it has no place for them."""
     laid = [made_up_gate(chance, ins + memories + k) for k in range(gates)]
     many = ins + memories + gates
     kept = [(chance.randrange(2), chance.randrange(many)) for k in range(memories)]
     return (ins, kept, laid, [chance.randrange(many) for k in range(outs if many else 0)])
+
+
+def chain(memories, gates):
+    """An in, so many memories behind one another, then so many nots."""
+    first = 1 + memories
+    return (1, [(0, k) for k in range(memories)], [(1, (first - 1 + k,)) for k in range(gates)], [memories + gates])
+
+
+def ring(memories, gates):
+    """So many memories behind one another, and so many nots, in a ring."""
+    kept = [(0, memories + gates - 1)] + [(0, k) for k in range(memories - 1)]
+    return (0, kept, [(1, (memories - 1 + k,)) for k in range(gates)], [0])
+
+
+# Papers: a second way, by the points' own words: one trial after another, each value asked for by itself.
+
+class PaperModel:
+    """Two circuits and a paper of good form."""
+
+    def __init__(self, circuit, other, paper):
+        self.circuits = (circuit, other)
+        self.helpers, self.held, self.claims, self.ends = paper
+        self.statements = [((0, k), (1, k)) for k in range(circuit[0])]
+        self.statements += [statement[:2] for statement in self.held + self.claims]
+
+    def gate(self, spot):
+        """The table and spots of a gate or helper, else None."""
+        if spot[0] == 2:
+            return self.helpers[spot[1]]
+        ins, memories, gates, outs = self.circuits[spot[0]]
+        if spot[1] < ins + len(memories):
+            return None
+        table, places = gates[spot[1] - ins - len(memories)]
+        return table, [(spot[0], place) for place in places]
+
+    def memory(self, spot):
+        """The begin and the next's spot of a memory, else None."""
+        ins, memories, gates, outs = self.circuits[spot[0]] if spot[0] < 2 else (0, [], [], [])
+        if not ins <= spot[1] < ins + len(memories):
+            return None
+        begin, after = memories[spot[1] - ins]
+        return begin, (spot[0], after)
+
+    def by_table(self, spot, ask):
+        table, spots = self.gate(spot)
+        bits = [ask(below) for below in spots]
+        return None if None in bits else table >> sum([bit << k for k, bit in enumerate(bits)]) & 1
+
+    def meets_in(self, spot):
+        if self.gate(spot):
+            return any([self.meets_in(below) for below in self.gate(spot)[1]])
+        return self.memory(spot) is None
+
+    def first(self, spot):
+        return self.by_table(spot, self.first) if self.gate(spot) else self.memory(spot)[0]
+
+    def shown(self, statement, later):
+        """Whether a statement's spots are shown alike, now or at the next turn."""
+        spots, (free, given) = statement[:2], statement[2:]
+        for bits in product((0, 1), repeat=len(free)):
+            has = {}
+            for thing, bit in zip(free, bits):
+                for spot in [thing] if isinstance(thing, tuple) else self.statements[thing]:
+                    has.setdefault(spot, set()).add(bit)
+            if any([len(both) == 2 for both in has.values()]):
+                continue
+
+            def alone(spot):
+                if spot in has:
+                    return min(has[spot])
+                return self.by_table(spot, alone) if self.gate(spot) else None
+
+            def now(spot):
+                if spot in has:
+                    return min(has[spot])
+                if self.gate(spot):
+                    return self.by_table(spot, now)
+                for number in given:
+                    if self.statements[number][1] == spot:
+                        return alone(self.statements[number][0])
+                return None
+
+            def afterwards(spot):
+                if self.gate(spot):
+                    return self.by_table(spot, afterwards)
+                return now(self.memory(spot)[1]) if self.memory(spot) else None
+
+            wanted = [(afterwards if later else now)(spot) for spot in spots]
+            known = [[now(spot) for spot in self.statements[number]] for number in given]
+            if None in wanted or any([None in both for both in known]):
+                return False
+            if all([first == second for first, second in known]) and wanted[0] != wanted[1]:
+                return False
+        return True
+
+    def taken(self):
+        wanted = [((0, place), (1, twin)) for place, twin in zip(self.circuits[0][3], self.circuits[1][3])]
+        if [self.statements[number] for number in self.ends] != wanted:
+            return False
+        for statement in self.held:
+            if any([self.meets_in(spot) for spot in statement[:2]]):
+                return False
+            if self.first(statement[0]) != self.first(statement[1]) or not self.shown(statement, True):
+                return False
+        return all([self.shown(statement, False) for statement in self.claims])
+
+
+# Senses: a second way, with tables as dicts from all bits to a bit, the steps done in any order.
+
+def place(number):
+    return ("place", number)
+
+
+def bit(value):
+    return ("bit", value)
+
+
+def memory(number):
+    return ("memory", number)
+
+
+def readings(ins, memories):
+    """All readings of so many memories."""
+    found = [[]]
+    for k in range(memories):
+        found = [reading + [told] for reading in found
+                 for told in [bit(0), bit(1), memory(ins + k)] + [one for one in dict.fromkeys(reading) if one[0] == "memory"]]
+    return found
+
+
+class SensesModel:
+    """The senses of a circuit by a reading, with the steps of each gate in an order by chance."""
+
+    def __init__(self, circuit, reading, chance):
+        self.chance = chance
+        self.below = circuit[0] + len(circuit[1])
+        self.senses = [place(k) for k in range(circuit[0])]
+        self.senses += [told if told[0] == "bit" else place(told[1]) for told in reading]
+        self.lefts = []
+        for table, places in circuit[2]:
+            self.put(table, [self.senses[one] for one in places])
+
+    def put(self, number, senses):
+        table = {bits: number >> sum([one << k for k, one in enumerate(bits)]) & 1
+                 for bits in product((0, 1), repeat=len(senses))}
+        steps = self.steps(table, senses)
+        while steps:
+            table, senses = self.chance.choice(steps)()
+            steps = self.steps(table, senses)
+        order = sorted(range(len(senses)), key=lambda k: senses[k])
+        figures = {tuple([bits[k] for k in order]): told for bits, told in table.items()}
+        left = (sum([told << sum([one << k for k, one in enumerate(bits)]) for bits, told in figures.items()]),
+                tuple([senses[k][1] for k in order]))
+        self.lefts.append(left)
+        self.senses.append(self.sense(left))
+
+    def sense(self, left):
+        own = place(len(self.senses))
+        if left[1] == ():
+            return bit(left[0])
+        if len(left[1]) == 1 and left[0] == 2:
+            return place(left[1][0])
+        for k, other in enumerate(self.lefts[:-1]):
+            if other == left and self.senses[self.below + k] == place(self.below + k):
+                return place(self.below + k)
+        return own
+
+    def read_by(self, sense):
+        """The place that a not reads, or None of what is no not."""
+        if sense[0] == "place" and sense[1] >= self.below:
+            table, places = self.lefts[sense[1] - self.below]
+            if table == 1 and len(places) == 1:
+                return place(places[0])
+        return None
+
+    def steps(self, table, senses):
+        """All steps that can be done."""
+        found = []
+        for k, sense in enumerate(senses):
+            if sense[0] == "bit":
+                found.append(lambda k=k, sense=sense: without(table, senses, k, lambda bits: sense[1]))
+            for j in range(k):
+                if senses[j] == sense and sense[0] == "place":
+                    found.append(lambda k=k, j=j: without(table, senses, k, lambda bits: bits[j]))
+            if all([table[bits] == table[bits[:k] + (1 - bits[k],) + bits[k + 1:]] for bits in table]):
+                found.append(lambda k=k: without(table, senses, k, lambda bits: 1))
+            if self.read_by(sense):
+                found.append(lambda k=k, read=self.read_by(sense): (
+                    {bits[:k] + (1 - bits[k],) + bits[k + 1:]: told for bits, told in table.items()},
+                    senses[:k] + [read] + senses[k + 1:]))
+        return found
+
+
+def without(table, senses, k, fill):
+    """A table and senses without place k, which has what fill tells of the others' bits."""
+    found = {bits: table[bits[:k] + (fill(bits),) + bits[k:]] for bits in product((0, 1), repeat=len(senses) - 1)}
+    return found, senses[:k] + senses[k + 1:]

@@ -9,7 +9,7 @@ from gatepapers.flat import flat
 from gatepapers.judge import parted
 from gatepapers.papers import looked
 from gatepapers.reading import read
-from tests.helper import ODD_THINGS, Checks, made_up_circuit
+from tests.helper import ODD_THINGS, Checks, PaperModel, made_up_circuit
 
 
 def zero(k):
@@ -58,99 +58,6 @@ def paper_by_helpers(circuit):
     return (helpers, held, claims, [number(place, 2) for place in outs])
 
 
-# A second way, by the points' own words: one trial after another, each value asked for by itself.
-
-class Model:
-    """Two circuits and a paper of good form."""
-
-    def __init__(self, circuit, other, paper):
-        self.circuits = (circuit, other)
-        self.helpers, self.held, self.claims, self.ends = paper
-        self.statements = [(zero(k), one(k)) for k in range(circuit[0])]
-        self.statements += [statement[:2] for statement in self.held + self.claims]
-
-    def gate(self, spot):
-        """The table and spots of a gate or helper, else None."""
-        if spot[0] == 2:
-            return self.helpers[spot[1]]
-        ins, memories, gates, outs = self.circuits[spot[0]]
-        if spot[1] < ins + len(memories):
-            return None
-        table, places = gates[spot[1] - ins - len(memories)]
-        return table, [(spot[0], place) for place in places]
-
-    def memory(self, spot):
-        """The begin and the next's spot of a memory, else None."""
-        ins, memories, gates, outs = self.circuits[spot[0]] if spot[0] < 2 else (0, [], [], [])
-        if not ins <= spot[1] < ins + len(memories):
-            return None
-        begin, after = memories[spot[1] - ins]
-        return begin, (spot[0], after)
-
-    def by_table(self, spot, ask):
-        table, spots = self.gate(spot)
-        bits = [ask(below) for below in spots]
-        return None if None in bits else table >> sum([bit << k for k, bit in enumerate(bits)]) & 1
-
-    def meets_in(self, spot):
-        if self.gate(spot):
-            return any([self.meets_in(below) for below in self.gate(spot)[1]])
-        return self.memory(spot) is None
-
-    def first(self, spot):
-        return self.by_table(spot, self.first) if self.gate(spot) else self.memory(spot)[0]
-
-    def shown(self, statement, later):
-        """Whether a statement's spots are shown alike, now or at the next turn."""
-        spots, (free, given) = statement[:2], statement[2:]
-        for bits in product((0, 1), repeat=len(free)):
-            has = {}
-            for thing, bit in zip(free, bits):
-                for spot in [thing] if isinstance(thing, tuple) else self.statements[thing]:
-                    has.setdefault(spot, set()).add(bit)
-            if any([len(both) == 2 for both in has.values()]):
-                continue
-
-            def alone(spot):
-                if spot in has:
-                    return min(has[spot])
-                return self.by_table(spot, alone) if self.gate(spot) else None
-
-            def now(spot):
-                if spot in has:
-                    return min(has[spot])
-                if self.gate(spot):
-                    return self.by_table(spot, now)
-                for number in given:
-                    if self.statements[number][1] == spot:
-                        return alone(self.statements[number][0])
-                return None
-
-            def afterwards(spot):
-                if self.gate(spot):
-                    return self.by_table(spot, afterwards)
-                return now(self.memory(spot)[1]) if self.memory(spot) else None
-
-            wanted = [(afterwards if later else now)(spot) for spot in spots]
-            known = [[now(spot) for spot in self.statements[number]] for number in given]
-            if None in wanted or any([None in both for both in known]):
-                return False
-            if all([first == second for first, second in known]) and wanted[0] != wanted[1]:
-                return False
-        return True
-
-    def taken(self):
-        wanted = [(zero(place), one(twin)) for place, twin in zip(self.circuits[0][3], self.circuits[1][3])]
-        if [self.statements[number] for number in self.ends] != wanted:
-            return False
-        for statement in self.held:
-            if any([self.meets_in(spot) for spot in statement[:2]]):
-                return False
-            if self.first(statement[0]) != self.first(statement[1]) or not self.shown(statement, True):
-                return False
-        return all([self.shown(statement, False) for statement in self.claims])
-
-
 # Two circuits that tell the same in two ways, and good papers for them.
 
 TOGGLE = (1, [(0, 2)], [(6, (0, 1))], [1])
@@ -177,7 +84,7 @@ class Taken(Checks):
         for circuit, other, paper in GOOD:
             self.assertIs(is_circuit(circuit) and is_circuit(other), True)
             self.assertIs(looked(circuit, other, paper), True, paper)
-            self.assertTrue(Model(circuit, other, paper).taken())
+            self.assertTrue(PaperModel(circuit, other, paper).taken())
 
     def test_a_circuit_and_itself(self):
         chance = Random(1)
@@ -382,7 +289,7 @@ class Shown(Checks):
         self.assertTrue(is_circuit(circuit) and is_circuit(other))
         paper = (list(helpers), list(held), list(claims), [])
         self.assertIs(looked(circuit, other, paper), taken, paper)
-        self.assertEqual(Model(circuit, other, paper).taken(), taken)
+        self.assertEqual(PaperModel(circuit, other, paper).taken(), taken)
 
     MEMORIES = (zero(2), one(2), [0, 1], [])
 
@@ -558,7 +465,7 @@ class Points(Checks):
     def check(self, taken, circuit, other, paper):
         self.assertTrue(is_circuit(circuit) and is_circuit(other))
         self.assertIs(looked(circuit, other, paper), taken, paper)
-        self.assertEqual(Model(circuit, other, paper).taken(), taken)
+        self.assertEqual(PaperModel(circuit, other, paper).taken(), taken)
 
     def test_held_spots_hang_on_no_in(self):
         # The in itself, alike at the beginning or not, and with nothing to show against it at the next turn.
@@ -679,7 +586,7 @@ class MadeUp(Checks):
     def agrees(self, work, held, claims):
         paper = (work.helpers, held, claims, [])
         taken = looked(*work.circuits, paper)
-        self.assertEqual(taken, Model(*work.circuits, paper).taken(), (work.circuits, paper))
+        self.assertEqual(taken, PaperModel(*work.circuits, paper).taken(), (work.circuits, paper))
         return taken
 
     def test_claims(self):
@@ -723,7 +630,7 @@ class Same(Checks):
             paper = paper_of_itself(circuit) if chance.random() < 0.5 else paper_by_helpers(circuit)
             other = self.changed(chance, circuit)
             taken = looked(circuit, other, paper)
-            self.assertEqual(taken, Model(circuit, other, paper).taken())
+            self.assertEqual(taken, PaperModel(circuit, other, paper).taken())
             if parted(circuit, other) is not None:
                 self.assertIs(taken, False, (circuit, other, paper))
                 changed += 1

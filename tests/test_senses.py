@@ -4,105 +4,15 @@ from itertools import product
 from random import Random
 
 from gatepapers.senses import senses_of
-from tests.helper import Checks, lists_of_bits, made_up_circuit, values_by_point
-
-
-def place(number):
-    return ("place", number)
-
-
-def bit(value):
-    return ("bit", value)
-
-
-def memory(number):
-    return ("memory", number)
-
-
-def readings(ins, memories):
-    """All readings of so many memories."""
-    found = [[]]
-    for k in range(memories):
-        found = [reading + [told] for reading in found
-                 for told in [bit(0), bit(1), memory(ins + k)] + [one for one in dict.fromkeys(reading) if one[0] == "memory"]]
-    return found
-
-
-# A second way: tables as dicts from all bits to a bit, the steps done in any order.
-
-class Model:
-    """The senses of a circuit by a reading, with the steps of each gate in an order by chance."""
-
-    def __init__(self, circuit, reading, chance):
-        self.chance = chance
-        self.below = circuit[0] + len(circuit[1])
-        self.senses = [place(k) for k in range(circuit[0])]
-        self.senses += [told if told[0] == "bit" else place(told[1]) for told in reading]
-        self.lefts = []
-        for table, places in circuit[2]:
-            self.put(table, [self.senses[one] for one in places])
-
-    def put(self, number, senses):
-        table = {bits: number >> sum([one << k for k, one in enumerate(bits)]) & 1
-                 for bits in product((0, 1), repeat=len(senses))}
-        steps = self.steps(table, senses)
-        while steps:
-            table, senses = self.chance.choice(steps)()
-            steps = self.steps(table, senses)
-        order = sorted(range(len(senses)), key=lambda k: senses[k])
-        figures = {tuple([bits[k] for k in order]): told for bits, told in table.items()}
-        left = (sum([told << sum([one << k for k, one in enumerate(bits)]) for bits, told in figures.items()]),
-                tuple([senses[k][1] for k in order]))
-        self.lefts.append(left)
-        self.senses.append(self.sense(left))
-
-    def sense(self, left):
-        own = place(len(self.senses))
-        if left[1] == ():
-            return bit(left[0])
-        if len(left[1]) == 1 and left[0] == 2:
-            return place(left[1][0])
-        for k, other in enumerate(self.lefts[:-1]):
-            if other == left and self.senses[self.below + k] == place(self.below + k):
-                return place(self.below + k)
-        return own
-
-    def read_by(self, sense):
-        """The place that a not reads, or None of what is no not."""
-        if sense[0] == "place" and sense[1] >= self.below:
-            table, places = self.lefts[sense[1] - self.below]
-            if table == 1 and len(places) == 1:
-                return place(places[0])
-        return None
-
-    def steps(self, table, senses):
-        """All steps that can be done."""
-        found = []
-        for k, sense in enumerate(senses):
-            if sense[0] == "bit":
-                found.append(lambda k=k, sense=sense: without(table, senses, k, lambda bits: sense[1]))
-            for j in range(k):
-                if senses[j] == sense and sense[0] == "place":
-                    found.append(lambda k=k, j=j: without(table, senses, k, lambda bits: bits[j]))
-            if all([table[bits] == table[bits[:k] + (1 - bits[k],) + bits[k + 1:]] for bits in table]):
-                found.append(lambda k=k: without(table, senses, k, lambda bits: 1))
-            if self.read_by(sense):
-                found.append(lambda k=k, read=self.read_by(sense): (
-                    {bits[:k] + (1 - bits[k],) + bits[k + 1:]: told for bits, told in table.items()},
-                    senses[:k] + [read] + senses[k + 1:]))
-        return found
-
-
-def without(table, senses, k, fill):
-    """A table and senses without place k, which has what fill tells of the others' bits."""
-    found = {bits: table[bits[:k] + (fill(bits),) + bits[k:]] for bits in product((0, 1), repeat=len(senses) - 1)}
-    return found, senses[:k] + senses[k + 1:]
+from tests.helper import (
+    Checks, SensesModel, bit, lists_of_bits, made_up_circuit, memory, place, readings, values_by_point,
+)
 
 
 class Senses(Checks):
     def agrees(self, circuit, reading, seed=0):
         senses, lefts = senses_of(circuit, reading)
-        model = Model(circuit, reading, Random(seed))
+        model = SensesModel(circuit, reading, Random(seed))
         self.assertEqual((senses, lefts), (model.senses, model.lefts), (circuit, reading))
         self.same_values(circuit, reading, senses, lefts)
 
