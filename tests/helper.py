@@ -426,6 +426,77 @@ def ring(memories, gates):
     return (0, kept, [(1, (memories - 1 + k,)) for k in range(gates)], [0])
 
 
+# Plain circuits: made up, and points 30 and 31 a second time.
+
+def made_up_plain(chance, most=(3, 2, 10, 3)):
+    """A plain circuit with at most so many ins, memories, gates and outs."""
+    ins, memories, gates, outs = [chance.randint(0, one) for one in most]
+    laid = []
+    for own in range(ins + memories, ins + memories + gates):
+        # Mostly places close by, and seldom one that stands there twice: so there are inner gates.
+        near = [place for place in range(own) if chance.random() < 0.5 or place > own - 3]
+        many = min(chance.choice((0, 1, 1, 2, 2, 2, 2)), len(near))
+        laid.append((chance.randrange(2) if many == 0 else (1, 8)[many - 1], tuple(sorted(chance.sample(near, many)))))
+    many = ins + memories + gates
+    kept = [(chance.randrange(2), chance.randrange(many)) for k in range(memories)]
+    return (ins, kept, laid, [chance.randrange(many) for k in range(outs if many else 0)])
+
+
+def made_up_shelf(chance):
+    """A shelf of two to twenty gates."""
+    found = [("inv", 1, 1, chance.randint(1, 9)), ("and", 2, 8, chance.randint(1, 9))]
+    for k in range(chance.randint(0, 18)):
+        many = chance.choice((1, 2, 2, 3, 3))
+        tables = [table for table in range(2 ** 2 ** many) if all([
+            any([(table >> t ^ table >> (t ^ 1 << place)) & 1 for t in range(2 ** many)]) for place in range(many)])]
+        found.append(("g" + "abcdefghijklmnopqr"[k], many, chance.choice(tables), chance.randint(1, 12)))
+    chance.shuffle(found)
+    return found
+
+
+def roots_by_point(circuit):
+    """The roots of a plain circuit, rising."""
+    ins, memories, gates, outs = circuit
+    ahead = ins + len(memories)
+    among = [place for table, places in gates for place in places]
+    wanted = outs + [after for begin, after in memories]
+    return [ahead + k for k, (table, places) in enumerate(gates)
+            if places and (ahead + k in wanted or among.count(ahead + k) > 1)]
+
+
+def cuts_by_point(circuit, gate):
+    """The sorted list of the cuts of a gate."""
+    ins, memories, gates, outs = circuit
+    ahead = ins + len(memories)
+    roots = roots_by_point(circuit)
+    found = [sorted(set(gates[gate - ahead][1]))]
+    for cut in found:
+        for place in cut:
+            if place >= ahead and gates[place - ahead][1] and place not in roots:
+                new = sorted(set(cut) - {place} | set(gates[place - ahead][1]))
+                if len(new) <= 3 and new not in found:
+                    found.append(new)
+    return sorted(found)
+
+
+def table_by_point(circuit, gate, cut):
+    """The table of a gate over a cut, bit by bit."""
+    ins, memories, gates, outs = circuit
+
+    def value(place, bits):
+        if place in cut:
+            return bits[list(cut).index(place)]
+        table, places = gates[place - ins - len(memories)]
+        return table >> sum([value(below, bits) << k for k, below in enumerate(places)]) & 1
+
+    table, places = gates[gate - ins - len(memories)]
+    found = 0
+    for number in range(2 ** len(cut)):
+        bits = [number >> k & 1 for k in range(len(cut))]
+        found += (table >> sum([value(below, bits) << k for k, below in enumerate(places)]) & 1) << number
+    return found
+
+
 # Papers: a second way, by the points' own words: one trial after another, each value asked for by itself.
 
 class PaperModel:
