@@ -490,6 +490,9 @@ class Shows(Checks):
         self.check(False, ROW, [(5, 0), (7, 0), (6, 0), (8, 0)], [0, 1, 3], 1)
         self.check(False, ROW, [(6, 0), (7, 0), (8, 0)], [0, 1, 2], 1)
         self.check(False, ROW, [(7, 0), (8, 0)], [0, 1], 1)
+        # Without memories the first gate stands straight behind the ins, but is none.
+        self.check(True, chain(0, 4), [(1, 0), (2, 0), (3, 0)], [0, 2], 1)
+        self.check(False, chain(0, 4), [(2, 0), (3, 0)], [0, 1], 1)
         self.check(False, ROUND, RING_WAY[1:], [0, 2, 3], 1)
         self.check(False, ROUND, RING_WAY[:-1], [0, 2, 3], 1)
         self.check(False, ROUND, RING_WAY[::-1], [0, 2, 3], 1)
