@@ -7,6 +7,7 @@ from random import Random
 
 from gatepapers.circuits import is_circuit, run_bits
 from gatepapers.errors import GateError
+from gatepapers.judge import parted
 from gatepapers.papers import looked
 
 KEPT = ("part end in out wire memory rooms go use number of at not and or xor plus minus same less if join cut").split()
@@ -76,6 +77,18 @@ class Checks(unittest.TestCase):
         self.assertIs(looked(circuit, other, paper), True, (circuit, other, paper))
         if model:
             self.assertTrue(PaperModel(circuit, other, paper).taken(), (circuit, other, paper))
+
+    def not_taken_spoilt(self, circuit, new, paper):
+        """That the paper isn't taken where one figure of a gate's table is spoilt and that parts them; how often it does."""
+        ins, memories, gates, outs = new
+        parting = 0
+        for k, (table, places) in enumerate(gates):
+            for figure in range(2 ** len(places)):
+                other = (ins, memories, gates[:k] + [(table ^ 1 << figure, places)] + gates[k + 1:], outs)
+                if parted(circuit, other) is not None:
+                    self.assertIs(looked(circuit, other, paper), False)
+                    parting += 1
+        return parting
 
     def own_lists(self, deed, *things):
         """That a deed leaves what is handed in, and each time tells the same in lists that are its asker's own."""

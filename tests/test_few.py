@@ -8,7 +8,6 @@ from gatepapers.errors import TooGreat
 from gatepapers.few import fewest
 from gatepapers.flat import flat
 from gatepapers.judge import pairs, parted
-from gatepapers.papers import looked
 from gatepapers.reading import read
 from tests.helper import Checks, lists_of_bits, made_up_circuit, made_up_rows, run_by_point, small_circuit, turn_by_point
 
@@ -278,12 +277,7 @@ class Fewest(Checks):
         for k in range(60):
             circuit = made_up_circuit(chance, 2, 3, 8, 2)
             new, paper, ways, partings = fewest(circuit)
-            ins, memories, gates, outs = new
-            for k, (table, places) in enumerate(gates):
-                other = (ins, memories, gates[:k] + [(table ^ 1, places)] + gates[k + 1:], outs)
-                if parted(circuit, other) is not None:
-                    self.assertIs(looked(circuit, other, paper), False)
-                    many += 1
+            many += self.not_taken_spoilt(circuit, new, paper)
         self.assertGreater(many, 50)
 
     def test_is_circuit(self):

@@ -102,15 +102,8 @@ class Plain(Checks):
     def test_a_spoilt_circuit_is_not_taken(self):
         circuit = (2, [(0, 3)], [(6, (0, 2)), (216, (1, 3, 0))], [4])
         new, paper = plain(circuit)
+        self.assertGreater(self.not_taken_spoilt(circuit, new, paper), 20)
         ins, memories, gates, outs = new
-        parting = 0
-        for k, (table, places) in enumerate(gates):
-            for figure in range(2 ** len(places)):
-                other = (ins, memories, gates[:k] + [(table ^ 1 << figure, places)] + gates[k + 1:], outs)
-                if parted(circuit, other) is not None:
-                    self.assertIs(looked(circuit, other, paper), False)
-                    parting += 1
-        self.assertGreater(parting, 20)
         self.assertIs(looked(circuit, (ins, [(1, memories[0][1])], gates, outs), paper), False)
 
     def test_own_lists(self):

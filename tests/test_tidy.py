@@ -2,14 +2,14 @@
 
 from random import Random
 
-from gatepapers.circuits import is_circuit, run_bits
+from gatepapers.circuits import is_circuit
 from gatepapers.flat import flat
 from gatepapers.papers import looked
 from gatepapers.reading import read
 from gatepapers.senses import senses_of
 from gatepapers.tidy import reading, tidied
 from tests.helper import (
-    Checks, Maker, SensesModel, bit, made_up_circuit, made_up_rows, memory, place, readings, small_circuit,
+    Checks, Maker, SensesModel, bit, made_up_circuit, memory, place, readings, small_circuit,
 )
 
 
@@ -357,15 +357,7 @@ class Tidied(Checks):
         for k in range(150):
             circuit = made_up_circuit(chance, 2, 2, 8, 2)
             new, paper = tidied(circuit)
-            ins, memories, gates, outs = new
-            if gates:
-                at = chance.randrange(len(gates))
-                table, places = gates[at]
-                spoilt = (ins, memories, gates[:at] + [(table ^ 1, places)] + gates[at + 1:], outs)
-                rows = made_up_rows(chance, 2, 30)
-                if run_bits(circuit, rows) != run_bits(spoilt, rows):
-                    self.assertIs(looked(circuit, spoilt, paper), False)
-                    many += 1
+            many += self.not_taken_spoilt(circuit, new, paper)
         self.assertGreater(many, 50)
 
     def test_own_lists(self):
