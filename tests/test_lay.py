@@ -236,6 +236,9 @@ class Prices:
 
 
 class Laid(Checks):
+    # How many circuits were searched through whole, and not left as having too many layings.
+    searched = 0
+
     def check(self, circuit, shelf, model=False, search=False):
         """That a circuit is laid as point 32 tells."""
         new, names, prices, paper = laid(circuit, shelf)
@@ -253,6 +256,7 @@ class Laid(Checks):
             layings = known.layings(known.roots)
             if layings is not None:
                 self.assertEqual(min(layings), total)
+                self.searched += 1
         return new, names
 
     def named(self, new, names, shelf):
@@ -363,6 +367,7 @@ class Laid(Checks):
         for k in range(250):
             circuit = made_up_plain(chance, (3, 3, 9, 3))
             self.check(circuit, made_up_shelf(chance), model=k % 10 == 0, search=True)
+        self.assertGreater(self.searched, 200)
         for k in range(40):
             self.check(made_up_plain(chance, (4, 3, 30, 4)), made_up_shelf(chance))
 
